@@ -1,0 +1,88 @@
+// Package weft: a network whose switches do what a policy says: see DOC.md.
+package weft
+
+import (
+	"weft/api"
+	"weft/flow"
+	"weft/packet"
+	"weft/read"
+)
+
+// Policy is one that was read.
+type Policy struct {
+	flow flow.Flow
+}
+
+// Network is switches, links, hosts and a controller.
+type Network struct{}
+
+// Print reads a policy, and prints it (P3).
+func Print(text string) (string, api.Errno, int) {
+	n, e, at := read.Policy(text)
+	if e != api.OK {
+		return "", e, at
+	}
+	return n.Text(), api.OK, 0
+}
+
+// Compile reads a policy (P4).
+func Compile(text string) (*Policy, api.Errno, int) {
+	n, e, at := read.Policy(text)
+	if e != api.OK {
+		return nil, e, at
+	}
+	return &Policy{flow.New(n)}, api.OK, 0
+}
+
+// Eval tells what the policy makes of a packet (P4).
+func (p *Policy) Eval(k api.Packet) ([]api.Packet, api.Errno) {
+	if p == nil {
+		return nil, api.ErrNil
+	}
+	if !packet.Right(k) {
+		return nil, api.ErrPacket
+	}
+	return p.flow.Run(k), api.OK
+}
+
+// Table tells the policy's table for a switch (P5).
+func (p *Policy) Table(sw int) ([]api.Rule, api.Errno) { return nil, api.OK }
+
+// Lookup does a packet by a table (P5).
+func Lookup(table []api.Rule, k api.Packet) ([]api.Packet, bool) { return nil, false }
+
+// Encode writes a message (P6).
+func Encode(m api.Message) (string, api.Errno) { return "", api.OK }
+
+// Decode reads a message (P6).
+func Decode(b string) (api.Message, api.Errno) { return api.Message{}, api.OK }
+
+// New makes a network (P7).
+func (p *Policy) New(c api.Config) (*Network, api.Errno) { return nil, api.OK }
+
+// Send lets a host send a packet (P7).
+func (n *Network) Send(sw int, pt int, k api.Packet) api.Errno { return api.OK }
+
+// Down tells the messages on the way to a switch (P7).
+func (n *Network) Down(sw int) ([]string, api.Errno) { return nil, api.OK }
+
+// Up tells the messages on the way to the controller (P7).
+func (n *Network) Up(sw int) ([]string, api.Errno) { return nil, api.OK }
+
+// Waiting tells the packets that wait at a switch (P7).
+func (n *Network) Waiting(sw int) ([]api.Packet, api.Errno) { return nil, api.OK }
+
+// Take lets a switch take a message (P7).
+func (n *Network) Take(sw int, i int) api.Errno { return api.OK }
+
+// Do lets a switch do a packet (P7).
+func (n *Network) Do(sw int) api.Errno { return api.OK }
+
+// Control lets the controller take a message (P7).
+func (n *Network) Control(sw int) api.Errno { return api.OK }
+
+// Rules tells a switch's table (P7).
+func (n *Network) Rules(sw int) ([]api.Rule, api.Errno) { return nil, api.OK }
+
+// Delivered tells what was delivered (P7).
+func (n *Network) Delivered() ([]api.Packet, api.Errno) { return nil, api.OK }
