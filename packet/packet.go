@@ -21,3 +21,9 @@ func Right(k api.Packet) bool {
 func Compare(a, b api.Packet) int {
 	return slices.Compare(a[:], b[:])
 }
+
+// Set makes a list into a set: in order, each once. It works in the list's own memory.
+func Set(list []api.Packet) []api.Packet {
+	slices.SortFunc(list, Compare)
+	return slices.Compact(list)
+}

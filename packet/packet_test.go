@@ -1,6 +1,7 @@
 package packet
 
 import (
+	"slices"
 	"testing"
 
 	"weft/api"
@@ -33,6 +34,18 @@ func TestCompare(t *testing.T) {
 	} {
 		if Compare(c.a, c.b) != c.want || Compare(c.b, c.a) != -c.want {
 			t.Errorf("Compare(%v, %v) = %d, want %d", c.a, c.b, Compare(c.a, c.b), c.want)
+		}
+	}
+}
+
+func TestSet(t *testing.T) {
+	for _, c := range []struct{ list, want []api.Packet }{
+		{nil, nil},
+		{[]api.Packet{{1}}, []api.Packet{{1}}},
+		{[]api.Packet{{2}, {1, 5}, {2}, {-1 << 63}, {1, 4}, {2}, {1<<63 - 1}}, []api.Packet{{-1 << 63}, {1, 4}, {1, 5}, {2}, {1<<63 - 1}}},
+	} {
+		if l := Set(slices.Clone(c.list)); !slices.Equal(l, c.want) {
+			t.Errorf("Set(%v) = %v, want %v", c.list, l, c.want)
 		}
 	}
 }

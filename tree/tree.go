@@ -122,6 +122,20 @@ func (g Group) Kind() Kind { return g.kind }
 // Parts tells the parts, in their order.
 func (g Group) Parts() []Node { return g.parts }
 
+// Atoms tells the tests and settings of a policy, in their order.
+func Atoms(n Node) []Node {
+	var list []Node
+	switch x := n.(type) {
+	case Test, Setting:
+		list = append(list, n)
+	case Group:
+		for _, p := range x.parts {
+			list = append(list, Atoms(p)...)
+		}
+	}
+	return list
+}
+
 func (g Group) Text() string {
 	texts := make([]string, len(g.parts))
 	for i, p := range g.parts {

@@ -1,6 +1,7 @@
 package tree
 
 import (
+	"slices"
 	"testing"
 
 	"weft/api"
@@ -99,5 +100,21 @@ func TestPromoted(t *testing.T) {
 	}
 	if !(Test{Pair{api.Dst, 5}}).Holds(k) || (Test{Pair{api.Dst, 4}}).Holds(k) {
 		t.Errorf("Holds")
+	}
+}
+
+func TestAtoms(t *testing.T) {
+	a, b, c := test(api.Pt, 1), set(api.Tag, 31), test(api.Sw, 0)
+	for _, x := range []struct {
+		node Node
+		want []Node
+	}{
+		{ID(), nil}, {Drop(), nil}, {a, []Node{a}}, {b, []Node{b}},
+		{Star(Star(b)), []Node{b}}, {Not(Not(Drop())), nil},
+		{Sum(Seq(b, a, ID()), Star(Sum(a, Drop())), Not(Seq(c, a))), []Node{b, a, a, c, a}},
+	} {
+		if l := Atoms(x.node); !slices.Equal(l, x.want) {
+			t.Errorf("Atoms of %s: %v, want %v", x.node.Text(), l, x.want)
+		}
 	}
 }

@@ -75,6 +75,9 @@ func (m *maker) pair(op string) model {
 	}
 	m.atoms++
 	field := 1 + m.Intn(3)
+	if m.Intn(4) == 0 {
+		field = 4 + m.Intn(2)
+	}
 	if op == "=" && m.Intn(8) == 0 {
 		field = api.Sw
 	}

@@ -4,13 +4,16 @@ package weft
 import (
 	"weft/api"
 	"weft/flow"
+	"weft/message"
 	"weft/packet"
 	"weft/read"
+	"weft/tables"
 )
 
 // Policy is one that was read.
 type Policy struct {
-	flow flow.Flow
+	flow   flow.Flow
+	tables tables.Maker
 }
 
 // Network is switches, links, hosts and a controller.
@@ -31,7 +34,8 @@ func Compile(text string) (*Policy, api.Errno, int) {
 	if e != api.OK {
 		return nil, e, at
 	}
-	return &Policy{flow.New(n)}, api.OK, 0
+	f := flow.New(n)
+	return &Policy{f, tables.NewMaker(n, f)}, api.OK, 0
 }
 
 // Eval tells what the policy makes of a packet (P4).
@@ -46,16 +50,26 @@ func (p *Policy) Eval(k api.Packet) ([]api.Packet, api.Errno) {
 }
 
 // Table tells the policy's table for a switch (P5).
-func (p *Policy) Table(sw int) ([]api.Rule, api.Errno) { return nil, api.OK }
+func (p *Policy) Table(sw int) ([]api.Rule, api.Errno) {
+	if p == nil {
+		return nil, api.ErrNil
+	}
+	if sw < 0 || sw > api.MaxValue {
+		return nil, api.ErrSwitch
+	}
+	return p.tables.Table(sw), api.OK
+}
 
 // Lookup does a packet by a table (P5).
-func Lookup(table []api.Rule, k api.Packet) ([]api.Packet, bool) { return nil, false }
+func Lookup(table []api.Rule, k api.Packet) ([]api.Packet, bool) {
+	return tables.Lookup(table, k)
+}
 
 // Encode writes a message (P6).
-func Encode(m api.Message) (string, api.Errno) { return "", api.OK }
+func Encode(m api.Message) (string, api.Errno) { return message.Encode(m) }
 
 // Decode reads a message (P6).
-func Decode(b string) (api.Message, api.Errno) { return api.Message{}, api.OK }
+func Decode(b string) (api.Message, api.Errno) { return message.Decode(b) }
 
 // New makes a network (P7).
 func (p *Policy) New(c api.Config) (*Network, api.Errno) { return nil, api.OK }
