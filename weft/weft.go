@@ -5,6 +5,7 @@ import (
 	"weft/api"
 	"weft/flow"
 	"weft/message"
+	"weft/network"
 	"weft/packet"
 	"weft/read"
 	"weft/tables"
@@ -17,7 +18,9 @@ type Policy struct {
 }
 
 // Network is switches, links, hosts and a controller.
-type Network struct{}
+type Network struct {
+	inner network.Network
+}
 
 // Print reads a policy, and prints it (P3).
 func Print(text string) (string, api.Errno, int) {
@@ -72,31 +75,95 @@ func Encode(m api.Message) (string, api.Errno) { return message.Encode(m) }
 func Decode(b string) (api.Message, api.Errno) { return message.Decode(b) }
 
 // New makes a network (P7).
-func (p *Policy) New(c api.Config) (*Network, api.Errno) { return nil, api.OK }
+func (p *Policy) New(c api.Config) (*Network, api.Errno) {
+	if p == nil {
+		return nil, api.ErrNil
+	}
+	if !network.Right(c) {
+		return nil, api.ErrNet
+	}
+	return &Network{network.New(c, p.flow, p.tables)}, api.OK
+}
+
+// refuse tells why a call on a switch is refused, or OK.
+func (n *Network) refuse(sw int) api.Errno {
+	switch {
+	case n == nil:
+		return api.ErrNil
+	case !n.inner.Has(sw):
+		return api.ErrSwitch
+	}
+	return api.OK
+}
 
 // Send lets a host send a packet (P7).
-func (n *Network) Send(sw int, pt int, k api.Packet) api.Errno { return api.OK }
+func (n *Network) Send(sw int, pt int, k api.Packet) api.Errno {
+	if e := n.refuse(sw); e != api.OK {
+		return e
+	}
+	return n.inner.Send(sw, pt, k)
+}
 
 // Down tells the messages on the way to a switch (P7).
-func (n *Network) Down(sw int) ([]string, api.Errno) { return nil, api.OK }
+func (n *Network) Down(sw int) ([]string, api.Errno) {
+	if e := n.refuse(sw); e != api.OK {
+		return nil, e
+	}
+	return n.inner.Down(sw), api.OK
+}
 
 // Up tells the messages on the way to the controller (P7).
-func (n *Network) Up(sw int) ([]string, api.Errno) { return nil, api.OK }
+func (n *Network) Up(sw int) ([]string, api.Errno) {
+	if e := n.refuse(sw); e != api.OK {
+		return nil, e
+	}
+	return n.inner.Up(sw), api.OK
+}
 
 // Waiting tells the packets that wait at a switch (P7).
-func (n *Network) Waiting(sw int) ([]api.Packet, api.Errno) { return nil, api.OK }
+func (n *Network) Waiting(sw int) ([]api.Packet, api.Errno) {
+	if e := n.refuse(sw); e != api.OK {
+		return nil, e
+	}
+	return n.inner.Waiting(sw), api.OK
+}
 
 // Take lets a switch take a message (P7).
-func (n *Network) Take(sw int, i int) api.Errno { return api.OK }
+func (n *Network) Take(sw int, i int) api.Errno {
+	if e := n.refuse(sw); e != api.OK {
+		return e
+	}
+	return n.inner.Take(sw, i)
+}
 
 // Do lets a switch do a packet (P7).
-func (n *Network) Do(sw int) api.Errno { return api.OK }
+func (n *Network) Do(sw int) api.Errno {
+	if e := n.refuse(sw); e != api.OK {
+		return e
+	}
+	return n.inner.Do(sw)
+}
 
 // Control lets the controller take a message (P7).
-func (n *Network) Control(sw int) api.Errno { return api.OK }
+func (n *Network) Control(sw int) api.Errno {
+	if e := n.refuse(sw); e != api.OK {
+		return e
+	}
+	return n.inner.Control(sw)
+}
 
 // Rules tells a switch's table (P7).
-func (n *Network) Rules(sw int) ([]api.Rule, api.Errno) { return nil, api.OK }
+func (n *Network) Rules(sw int) ([]api.Rule, api.Errno) {
+	if e := n.refuse(sw); e != api.OK {
+		return nil, e
+	}
+	return n.inner.Rules(sw), api.OK
+}
 
 // Delivered tells what was delivered (P7).
-func (n *Network) Delivered() ([]api.Packet, api.Errno) { return nil, api.OK }
+func (n *Network) Delivered() ([]api.Packet, api.Errno) {
+	if n == nil {
+		return nil, api.ErrNil
+	}
+	return n.inner.Delivered(), api.OK
+}
